@@ -1,0 +1,1 @@
+"""Branchedhall: a hall of talk that many houses keep, without a head."""

@@ -1,0 +1,135 @@
+"""The form of the package: where its interface stands, and the rules of the language that can be seen at a glance."""
+
+import ast
+import builtins
+import importlib
+import inspect
+import os
+import re
+import unittest
+
+FOLDER = os.path.join(os.path.dirname(os.path.dirname(os.path.abspath(__file__))), "branchedhall")
+
+# What the interface lists by files, with the names of the arguments.
+INTERFACE = {
+    "words": {"is_word": ["thing"], "is_person": ["thing"], "is_name": ["thing"], "is_rank": ["thing"],
+              "house_of": ["person"]},
+    "deeds": {"look_at_deed": ["thing"], "key_of": ["deed"]},
+    "texts": {"show": ["deed"], "show_all": ["deeds"], "read": ["text"], "read_all": ["text"]},
+}
+
+BARRED_WORDS = (
+    "type typing typing_extensions enum Enum IntEnum StrEnum Flag IntFlag Generic Protocol ABC ABCMeta namedtuple "
+    "NamedTuple TypedDict TYPE_CHECKING abstractmethod").split()
+BARRED_ANYWHERE = ("dataclass", "overload", "contextmanager")
+BUILTINS = (
+    "len range enumerate zip min max sum abs sorted reversed int str bool bytes list tuple dict set frozenset isinstance "
+    "ord repr any all divmod iter next super property staticmethod classmethod Exception ValueError TypeError KeyError "
+    "IndexError LookupError ZeroDivisionError ArithmeticError OverflowError RuntimeError NotImplementedError "
+    "AttributeError StopIteration NotImplemented").split()
+METHODS = (
+    "append clear copy count endswith extend find get index insert isalnum isalpha isdigit islower isspace isupper items "
+    "join keys ljust lower lstrip partition pop remove replace reverse rfind rjust rpartition rsplit rstrip setdefault "
+    "split splitlines startswith strip update upper values zfill bit_length sort add discard __init__").split()
+BARRED_NODES = (ast.Global, ast.AsyncFunctionDef, ast.AsyncFor, ast.AsyncWith, ast.Await, ast.Import, ast.Div)
+
+
+def sources():
+    """The files of the package: a dict from their names to their texts."""
+    texts = {}
+    for file in sorted(os.listdir(FOLDER)):
+        if file != "__pycache__":
+            with open(os.path.join(FOLDER, file), encoding="utf-8", newline="") as source:
+                texts[file] = source.read()
+    return texts
+
+
+def nodes(*kinds):
+    """All nodes of these kinds in the package, with their files."""
+    found = []
+    for file, text in sources().items():
+        found += [(file, node) for node in ast.walk(ast.parse(text)) if isinstance(node, kinds)]
+    return found
+
+
+class Interface(unittest.TestCase):
+    def test_each_is_defined_in_its_file(self):
+        for file, functions in INTERFACE.items():
+            module = importlib.import_module("branchedhall." + file)
+            for name, arguments in functions.items():
+                function = getattr(module, name)
+                self.assertEqual(function.__module__, module.__name__, name)
+                self.assertEqual(list(inspect.signature(function).parameters), arguments, name)
+
+
+class Files(unittest.TestCase):
+    def test_nothing_but_files_of_python(self):
+        self.assertIn("__init__.py", sources())
+        for file in sources():
+            self.assertTrue(re.fullmatch(r"[a-z0-9_]+\.py", file), file)
+
+    def test_sizes_and_signs(self):
+        for file, text in sources().items():
+            rows = text.split("\n")
+            self.assertLess(len(rows), 400, file)
+            for row in rows:
+                self.assertLessEqual(len(row), 120, (file, row))
+                self.assertTrue(re.fullmatch("[ -~]*", row), (file, row))
+
+    def test_lengths_of_functions(self):
+        for file, node in nodes(ast.FunctionDef):
+            self.assertLessEqual(node.end_lineno - node.lineno + 1, 40, (file, node.name))
+
+    def test_barred_words(self):
+        for file, text in sources().items():
+            self.assertEqual([word for word in re.findall(r"\w+", text) if word in BARRED_WORDS], [], file)
+            self.assertEqual([word for word in BARRED_ANYWHERE if word in text], [], file)
+
+
+class Code(unittest.TestCase):
+    def test_imports(self):
+        for file, node in nodes(ast.ImportFrom):
+            self.assertEqual((node.level, node.module.split(".")[0]), (0, "branchedhall"), file)
+            defined = ast.parse(sources()[node.module.split(".")[1] + ".py"]).body
+            names = [part.name for part in defined if isinstance(part, (ast.FunctionDef, ast.ClassDef))]
+            names += [part.targets[0].id for part in defined if isinstance(part, ast.Assign)]
+            for alias in node.names:
+                self.assertIn(alias.name, names, file)
+
+    def test_barred_nodes(self):
+        self.assertEqual([(file, node) for file, node in nodes(*BARRED_NODES)], [])
+
+    def test_strings_and_numbers(self):
+        for file, node in nodes(ast.Constant):
+            self.assertNotIsInstance(node.value, (float, complex), file)
+            if isinstance(node.value, str):
+                self.assertNotIn("%", node.value, file)
+
+    def test_is_of_none_and_truths_alone(self):
+        for file, node in nodes(ast.Compare):
+            for sign, right in zip(node.ops, node.comparators):
+                if isinstance(sign, (ast.Is, ast.IsNot)):
+                    self.assertIsInstance(right, ast.Constant, (file, node.lineno))
+
+    def test_builtins(self):
+        for file, node in nodes(ast.Name):
+            if node.id in dir(builtins):
+                self.assertIn(node.id, BUILTINS, (file, node.lineno))
+                self.assertIsInstance(node.ctx, ast.Load, (file, node.lineno))
+            self.assertFalse(node.id.startswith("_"), (file, node.id))
+
+    def test_methods(self):
+        own = [node.name for file, node in nodes(ast.FunctionDef)]
+        for file, node in nodes(ast.Call):
+            if isinstance(node.func, ast.Attribute):
+                self.assertIn(node.func.attr, METHODS + own, (file, node.lineno))
+
+    def test_lists_for_any_and_all(self):
+        for file, node in nodes(ast.Call):
+            if isinstance(node.func, ast.Name) and node.func.id in ("any", "all", "min", "max", "sum", "sorted"):
+                for argument in node.args:
+                    self.assertNotIsInstance(argument, ast.GeneratorExp, (file, node.lineno))
+
+
+if __name__ == "__main__":
+    unittest.main()
