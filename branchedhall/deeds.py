@@ -3,6 +3,15 @@
 from branchedhall.errors import NoDeed
 from branchedhall.words import house_of, is_name, is_person, is_rank, is_whole
 
+# The places of a deed's parts.
+NAME = 0
+KIND = 1
+WHO = 2
+ABOUT = 3
+BODY = 4
+AFTER = 5
+LEAVE = 6
+
 KINDS = ("begin", "seat", "ranks", "door", "say", "strike", "move")
 WORDS = ("bar", "call", "door", "move", "out", "ranks", "say", "strike")
 KEYED = ("begin", "seat", "ranks", "door", "move")
@@ -148,5 +157,5 @@ def look_at_deed(thing):
 
 def key_of(deed):
     """The key for which a deed may stand in a state, or None."""
-    kind = deed[1]
-    return (kind, deed[3]) if kind in KEYED else None
+    kind = deed[KIND]
+    return (kind, deed[ABOUT]) if kind in KEYED else None

@@ -16,6 +16,15 @@ INTERFACE = {
               "house_of": ["person"]},
     "deeds": {"look_at_deed": ["thing"], "key_of": ["deed"]},
     "texts": {"show": ["deed"], "show_all": ["deeds"], "read": ["text"], "read_all": ["text"]},
+    "ranks": {"rank_in": ["hall", "state", "person"], "wanted_in": ["hall", "state", "word"],
+              "seat_in": ["hall", "state", "person"], "door_in": ["hall", "state"], "ranked": ["hall", "state"]},
+    "leave": {"keys_for": ["kind", "who", "about", "body"], "leave_for": ["state", "kind", "who", "about", "body"],
+              "bar": ["hall", "state", "deed"]},
+    "chains": {"by_leave": ["hall", "deed"], "not_given": ["hall", "deed"], "chain_of": ["hall", "names"],
+               "past_of": ["hall", "names"], "depth_of": ["hall", "name"], "lets_chain": ["hall", "name", "thing"],
+               "chain_paper": ["hall", "name"]},
+    "orders": {"parted": ["hall", "states"], "of_rank": ["hall", "names"], "by_leaves": ["hall", "names"],
+               "line_of": ["hall", "name"], "far_of": ["hall", "line", "name"], "along": ["hall", "line", "names"]},
 }
 
 BARRED_WORDS = (
@@ -95,6 +104,26 @@ class Code(unittest.TestCase):
             names += [part.targets[0].id for part in defined if isinstance(part, ast.Assign)]
             for alias in node.names:
                 self.assertIn(alias.name, names, file)
+
+    def test_no_round_of_imports(self):
+        ahead = {file: [] for file in sources()}
+        for file, node in nodes(ast.ImportFrom):
+            ahead[file].append(node.module.split(".")[1] + ".py")
+        while ahead:
+            free = [file for file in ahead if not any(other in ahead for other in ahead[file])]
+            self.assertNotEqual(free, [], ahead)
+            ahead = {file: others for file, others in ahead.items() if file not in free}
+
+    def test_imports_are_used_and_keep_their_names(self):
+        for file, text in sources().items():
+            tree = ast.parse(text)
+            imported = [alias.name for node in ast.walk(tree) if isinstance(node, ast.ImportFrom) for alias in node.names]
+            names = [node for node in ast.walk(tree) if isinstance(node, ast.Name)]
+            loaded = [node.id for node in names if isinstance(node.ctx, ast.Load)]
+            bound = [node.id for node in names if not isinstance(node.ctx, ast.Load)]
+            bound += [node.arg for node in ast.walk(tree) if isinstance(node, ast.arg)]
+            self.assertEqual([name for name in imported if name not in loaded], [], file)
+            self.assertEqual([name for name in imported if name in bound], [], file)
 
     def test_barred_nodes(self):
         self.assertEqual([(file, node) for file, node in nodes(*BARRED_NODES)], [])
