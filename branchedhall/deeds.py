@@ -159,3 +159,8 @@ def key_of(deed):
     """The key for which a deed may stand in a state, or None."""
     kind = deed[KIND]
     return (kind, deed[ABOUT]) if kind in KEYED else None
+
+
+def with_body(deed, body):
+    """The deed with another body."""
+    return deed[:BODY] + (body,) + deed[BODY + 1:]

@@ -25,6 +25,20 @@ INTERFACE = {
                "chain_paper": ["hall", "name"]},
     "orders": {"parted": ["hall", "states"], "of_rank": ["hall", "names"], "by_leaves": ["hall", "names"],
                "line_of": ["hall", "name"], "far_of": ["hall", "line", "name"], "along": ["hall", "line", "names"]},
+    "made": {"made": ["hall", "states"], "lets_made": ["hall", "states", "thing"],
+             "state_by": ["hall", "states", "paper"]},
+    "giving": {"lets_giving": ["hall", "state", "person", "thing"], "giving_of": ["hall", "state", "person"]},
+}
+
+# The classes by files, with the arguments of their methods behind self.
+CLASSES = {
+    "webs": {"Web": {
+        "__init__": "first", "put": "deed", "stand": "name", "names": "", "missing": "", "ends": "", "past": "name",
+        "soft": "", "may_go": "", "deed": "name", "both": "name", "why": "name", "ahead": "name", "behind": "name",
+        "now": "", "paper": "", "hall": "", "let_go": "names", "twin": "", "__len__": "", "__eq__": "other"}},
+    "houses": {"House": {
+        "__init__": "name", "begin": "person, *, rules=1", "told": "first", "do": "person, kind, *, about='', body",
+        "hear": "deeds", "asks": "", "answers": "names", "log": "", "called": "", "web": ""}},
 }
 
 BARRED_WORDS = (
@@ -40,6 +54,10 @@ METHODS = (
     "append clear copy count endswith extend find get index insert isalnum isalpha isdigit islower isspace isupper items "
     "join keys ljust lower lstrip partition pop remove replace reverse rfind rjust rpartition rsplit rstrip setdefault "
     "split splitlines startswith strip update upper values zfill bit_length sort add discard __init__").split()
+DOUBLE_METHODS = ("__init__", "__len__", "__eq__")
+BARRED_ATTRIBUTES = (
+    "items keys values pop update append clear extend insert remove reverse setdefault sort args encode decode hex "
+    "fromhex format format_map mro").split()
 BARRED_NODES = (ast.Global, ast.AsyncFunctionDef, ast.AsyncFor, ast.AsyncWith, ast.Await, ast.Import, ast.Div)
 
 
@@ -69,6 +87,17 @@ class Interface(unittest.TestCase):
                 function = getattr(module, name)
                 self.assertEqual(function.__module__, module.__name__, name)
                 self.assertEqual(list(inspect.signature(function).parameters), arguments, name)
+
+    def test_each_method_is_defined_in_its_class(self):
+        for file, classes in CLASSES.items():
+            module = importlib.import_module("branchedhall." + file)
+            for name, methods in classes.items():
+                one = getattr(module, name)
+                self.assertEqual(one.__module__, module.__name__, name)
+                for method, arguments in methods.items():
+                    self.assertIn(method, vars(one), name)
+                    told = str(inspect.signature(vars(one)[method]))
+                    self.assertEqual(told, "(self, " + arguments + ")" if arguments else "(self)", (name, method))
 
 
 class Files(unittest.TestCase):
@@ -152,6 +181,23 @@ class Code(unittest.TestCase):
         for file, node in nodes(ast.Call):
             if isinstance(node.func, ast.Attribute):
                 self.assertIn(node.func.attr, METHODS + own, (file, node.lineno))
+
+    def test_methods_and_attributes(self):
+        methods = [node.name for file, one in nodes(ast.ClassDef) for node in one.body
+                   if isinstance(node, ast.FunctionDef)]
+        assigned = [node.attr for file, node in nodes(ast.Attribute) if isinstance(node.ctx, ast.Store)]
+        self.assertEqual([name for name in assigned if name in methods + BARRED_ATTRIBUTES], [])
+        self.assertEqual([name for name in methods if name.startswith("_") and name not in DOUBLE_METHODS], [])
+        read = [node.attr for file, node in nodes(ast.Attribute) if isinstance(node.ctx, ast.Load)]
+        self.assertEqual([name for name in read if name not in assigned + methods + METHODS], [])
+
+    def test_own_errors_are_raised_and_caught(self):
+        own = [one.name for one in ast.parse(sources()["errors.py"]).body if isinstance(one, ast.ClassDef)]
+        for file, node in nodes(ast.Raise):
+            self.assertIsInstance(node.exc, ast.Call, (file, node.lineno))
+            self.assertIn(node.exc.func.id, own, (file, node.lineno))
+        for file, node in nodes(ast.ExceptHandler):
+            self.assertIn(node.type.id, own, (file, node.lineno))
 
     def test_lists_for_any_and_all(self):
         for file, node in nodes(ast.Call):

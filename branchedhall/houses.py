@@ -1,0 +1,108 @@
+"""Houses: each keeps a web of its own, writes the deeds of its people, and hears those of others [22]."""
+
+from branchedhall.deeds import MOST_NAMES, NAME, is_one_of, look_at_deed
+from branchedhall.errors import Barred, Busy, Full, NoDeed, NoHall, NoHouse, Twin
+from branchedhall.leave import leave_for
+from branchedhall.webs import Web
+from branchedhall.words import GREATEST_NUMBER, is_name, is_word
+
+
+def next_number(web, house):
+    """The number of the next deed that a house writes into a web."""
+    numbers = [name[1] for name in web.names() if name[0] == house]
+    number = max(numbers, default=-1) + 1
+    if number <= GREATEST_NUMBER:
+        return number
+    return min([free for free in range(len(numbers) + 1) if free not in numbers])
+
+
+def written(web, house, person, kind, about, body):
+    """The deed that a house writes into a web; NoDeed where it were none."""
+    name = (house, next_number(web, house))
+    after = () if is_one_of(kind, ("begin",)) else tuple(web.ends()[-MOST_NAMES:])
+    # What gives leave can be asked for a deed alone: so its after stands there first, which is of the same form.
+    look_at_deed((name, kind, person, about, body, after, after))
+    return (name, kind, person, about, body, after, leave_for(web.now(), kind, person, about, body))
+
+
+def heard(web, thing):
+    """How a thing, of any kind, stands that is put into a web, or a text for what refuses it."""
+    try:
+        return web.put(thing)
+    except NoDeed:
+        return "none"
+    except Twin:
+        return "twin"
+    except Full:
+        return "full"
+
+
+class House:
+    """A house, with its web, None as long as it has none, and the rows of its log."""
+
+    def __init__(self, name):
+        if not is_word(name):
+            raise NoHouse(name)
+        self.house = name
+        self.kept = None
+        self.rows = []
+
+    def begin(self, person, *, rules=1):
+        """Begins a hall; told is the begin."""
+        first = ((self.house, 0), "begin", person, "", (rules, None), (), ())
+        self.told(first)
+        return first
+
+    def told(self, first):
+        """Takes up the hall of a begin."""
+        if self.kept is not None:
+            raise Busy()
+        self.kept = Web(first)
+
+    def own_web(self):
+        """The house's own web."""
+        if self.kept is None:
+            raise NoHall()
+        return self.kept
+
+    def do(self, person, kind, *, about="", body):
+        """Writes a deed of a person of the house, if it is let in; told is the deed."""
+        web = self.own_web().twin()
+        deed = written(web, self.house, person, kind, about, body)
+        web.put(deed)
+        why = web.why(deed[NAME])
+        if why is not None:
+            raise Barred(why[0], why[1])
+        self.kept = web
+        return deed
+
+    def hear(self, deeds):
+        """Hears things, of any kind, one by one; told is how each one stands, or what refuses it."""
+        web = self.own_web()
+        self.rows.append(("open", web.many))
+        try:
+            return [heard(web, thing) for thing in deeds]
+        finally:
+            self.rows.append(("shut", web.many))
+
+    def asks(self):
+        """The names that are missing."""
+        return self.own_web().missing()
+
+    def answers(self, names):
+        """The deeds that are known of these things, of any kind, in their order."""
+        web = self.own_web()
+        known = {name: True for name in web.names()}
+        return [deed for name in names if is_name(name) and name in known for deed in web.both(name)]
+
+    def log(self):
+        """What was known ahead of and behind each hearing."""
+        return list(self.rows)
+
+    def called(self):
+        """The house's name."""
+        return self.house
+
+    def web(self):
+        """A twin of the house's web."""
+        return self.own_web().twin()
