@@ -23,7 +23,7 @@ def telling(hall, line, person, rank):
 
 def is_who_began(hall, here, own, person):
     """Whether a person began, by what is named here, and the begin is the own one."""
-    return own is not None and here.get(BEGIN_KEY) == own and who_began(hall, here) == person
+    return here.get(BEGIN_KEY) == own and who_began(hall, here) == person
 
 
 def giving_of(hall, state, person):

@@ -350,6 +350,14 @@ class Log(unittest.TestCase):
         self.assertEqual(house.log(), rows)
         self.assertTrue(all(type(row) is tuple for row in house.log()))
 
+    def test_right_behind_the_begin(self):
+        house, other = House("ash"), House("birch")
+        other.told(house.begin(AMY))
+        for one in (house, other):
+            one.hear([])
+            one.hear([None])
+            self.assertEqual(one.log(), [("open", 1), ("shut", 1)] * 2)
+
     def test_asking_writes_nothing(self):
         house = ash()
         house.hear([])

@@ -28,6 +28,8 @@ INTERFACE = {
     "made": {"made": ["hall", "states"], "lets_made": ["hall", "states", "thing"],
              "state_by": ["hall", "states", "paper"]},
     "giving": {"lets_giving": ["hall", "state", "person", "thing"], "giving_of": ["hall", "state", "person"]},
+    "struck": {"struck_in": ["web"], "thinned": ["deed"], "shown": ["web", "name"], "thin_hall": ["hall", "names"]},
+    "moves": {"moved": ["hall", "state", "person", "number", "rules"], "is_kept": ["hall", "state", "other", "later"]},
 }
 
 # The classes by files, with the arguments of their methods behind self.
@@ -39,6 +41,9 @@ CLASSES = {
     "houses": {"House": {
         "__init__": "name", "begin": "person, *, rules=1", "told": "first", "do": "person, kind, *, about='', body",
         "hear": "deeds", "asks": "", "answers": "names", "log": "", "called": "", "web": ""}},
+    "worlds": {"World": {
+        "__init__": "houses, person, *, rules=1", "weave": "rows", "houses": "", "web": "house", "is_one": ""}},
+    "desk": {"Desk": {"__init__": "", "say": "row", "__len__": ""}},
 }
 
 BARRED_WORDS = (
@@ -87,6 +92,10 @@ class Interface(unittest.TestCase):
                 function = getattr(module, name)
                 self.assertEqual(function.__module__, module.__name__, name)
                 self.assertEqual(list(inspect.signature(function).parameters), arguments, name)
+
+    def test_names_alone_behind_a_star(self):
+        moves = importlib.import_module("branchedhall.moves")
+        self.assertEqual(str(inspect.signature(moves.moved)), "(hall, state, person, *, number=0, rules)")
 
     def test_each_method_is_defined_in_its_class(self):
         for file, classes in CLASSES.items():

@@ -4,11 +4,18 @@ import random
 import unittest
 
 from branchedhall.chains import chain_paper, lets_chain, not_given
+from branchedhall.deeds import key_of
+from branchedhall.desk import Desk
+from branchedhall.errors import Barred
 from branchedhall.giving import giving_of, lets_giving
 from branchedhall.houses import House
 from branchedhall.made import lets_made, made, state_by
+from branchedhall.moves import is_kept, moved
 from branchedhall.ranks import ranked
+from branchedhall.struck import shown, struck_in, thin_hall, thinned
 from branchedhall.texts import read, read_all, show, show_all
+from branchedhall.worlds import World
+from tests.halls import AMY, BOB, CYD, DAN
 from tests.samples import altered
 from tests.stories import SlowWeb, chance_deeds, told_of
 
@@ -150,6 +157,59 @@ class Missing(unittest.TestCase):
         self.assertGreater(waited, 20)
 
 
+class MissingInAWorld(unittest.TestCase):
+    """(e), with worlds"""
+
+    def test_fetched_back(self):
+        for seed in range(12):
+            chance = random.Random(seed)
+            world = World(["ash", "birch", "elm"], AMY)
+            rows = [("do", "ash", AMY, "seat", AMY, "in"), ("do", "ash", AMY, "door", "", "open"),
+                    ("send", "ash", "birch"), ("do", "birch", BOB, "seat", BOB, "in"), ("part", "elm")]
+            world.weave(rows + [("do", "ash", AMY, "say", "", "oh")] * 4 + [("send", "birch", "ash")])
+            world.weave([("do", "ash", AMY, "move", "", 2), ("do", "birch", BOB, "say", "", "ah"), ("send", "birch", "ash")])
+            deeds = [one for one in world.web("ash").hall().values() if chance.random() < 0.4]
+            world.weave([("lie", "elm", one) for one in deeds])
+            behind = states_behind(world.web("elm"))
+            self.assertEqual(world.weave([("fetch", "elm", "ash")]), ["lost"])
+            world.weave([("meet", "elm"), ("fetch", "elm", "ash")])
+            web = world.web("elm")
+            self.assertEqual(web.missing(), [])
+            self.assertEqual({name: web.behind(name) for name in behind}, behind)
+            self.assertEqual({web.stand(name) for name in web.names()}, {"let"})
+            world.weave([("send", "ash", "elm"), ("send", "ash", "birch")])
+            self.assertTrue(world.is_one())
+            self.assertEqual(told_of(world.web("elm")), told_of(world.web("ash")))
+
+
+class StruckOut(unittest.TestCase):
+    """(f)"""
+
+    def test_changes_no_state(self):
+        struck = 0
+        for seed, (first, deeds) in enumerate(TALES):
+            house = house_of_all("ash", first, deeds)
+            web = house.web()
+            if len(web.ends()) > 6:
+                continue
+            now, behind = web.now(), states_behind(web)
+            for name in random.Random(seed).sample(list(web.hall()), 3):
+                try:
+                    house.do(AMY, "strike", body=name)
+                except Barred:
+                    continue
+                struck += 1
+                self.assertIn(name, struck_in(house.web()))
+                self.assertEqual(shown(house.web(), name), thinned(web.deed(name)))
+                self.assertEqual(house.web().now(), now)
+                self.assertEqual({one: house.web().behind(one) for one in behind}, behind)
+            # Their words gone, all is told of the hall as before.
+            thin = thin_hall(web.hall(), struck_in(house.web()))
+            ends = [web.behind(name) for name in web.ends()]
+            self.assertEqual(made(thin, ends), (now, web.paper()))
+        self.assertGreater(struck, 10)
+
+
 class LetGo(unittest.TestCase):
     """(g)"""
 
@@ -172,6 +232,26 @@ class LetGo(unittest.TestCase):
                 self.assertEqual(web.deed(name)[4], "never said")
             gone += len(going)
         self.assertGreater(gone, 10)
+
+
+class HallsMoved(unittest.TestCase):
+    """(h)"""
+
+    def test_the_ranks_the_door_and_the_bars(self):
+        told = 0
+        for first, deeds in TALES:
+            web = web_of(first, deeds)
+            for person in (AMY, BOB, CYD, DAN):
+                try:
+                    new = moved(web.hall(), web.now(), person, rules=2)
+                except Barred:
+                    continue
+                told += 1
+                hall, state = {one[0]: one for one in new}, {key_of(one): one[0] for one in new}
+                self.assertTrue(is_kept(web.hall(), web.now(), hall, state))
+                again = house_of_all("zz", new[0], new).web()
+                self.assertEqual((again.hall(), again.now()), (hall, state))
+        self.assertGreater(told, 5)
 
 
 def called_otherwise(thing):
@@ -204,8 +284,38 @@ class CalledOtherwise(unittest.TestCase):
             self.assertEqual(other, called_otherwise(told))
 
 
+    def test_a_desk_answers_alike(self):
+        rows = ["world hall amy@ash 2 ash birch elm", "do hall amy@ash seat amy@ash in", "do hall amy@ash door - open",
+                "send hall ash birch", "do hall bob@birch seat bob@birch in", "do hall amy@ash ranks - bob@birch=60;",
+                "send hall birch ash", "do hall bob@birch say - !", "fetch hall elm ash", "send hall ash elm",
+                "now hall ash", "now hall elm", "ranks hall ash", "ends hall ash", "soft hall ash", "missing hall elm",
+                "seat hall ash bob@birch", "why hall ash birch:0", "show hall ash birch:0", "same hall", "names"]
+
+        def renamed(text):
+            for house in ("ash", "birch", "elm"):
+                text = text.replace(house, "c" + house)
+            return text.replace("amy@", "bamy@").replace("bob@", "bbob@")
+        one, two = Desk(), Desk()
+        for row in rows:
+            self.assertEqual(two.say(renamed(row)), renamed(one.say(row)))
+
+
 class WrittenAndReadBack(unittest.TestCase):
     """(j)"""
+
+    def test_what_a_desk_shows(self):
+        desk, world = Desk(), World(["ash", "birch"], AMY)
+        desk.say("world hall amy@ash 1 ash birch")
+        rows = [("seat", AMY, "in", AMY), ("door", "", "open", "-"), ("say", "", " a  b ", "-"), ("say", "", "", "-"),
+                ("move", "", 2, "-"), ("strike", "", ("ash", 0), "-"), ("ranks", "", (((AMY, 100),), (("say", 5),)), "-")]
+        written = ["in", "open", " a  b ", "", "2", "ash:0", "amy@ash=100;say=5"]
+        for number, ((kind, about, body, shown_about), text) in enumerate(zip(rows, written), 1):
+            self.assertEqual(desk.say(f"do hall amy@ash {kind} {shown_about} {text}"), f"ash:{number}")
+            world.weave([("do", "ash", AMY, kind, about, body)])
+        for name in world.web("ash").names():
+            row = desk.say(f"show hall ash {name[0]}:{name[1]}")
+            self.assertEqual(read(row), world.web("ash").deed(name))
+            self.assertEqual(show(read(row)), row)
 
     def test_webs(self):
         for first, deeds in TALES:
