@@ -128,7 +128,7 @@ def told_between(world, word, first, second, counted):
     look_for_houses(world, [first, second])
     if world.weave([(word, first, second)]) == [LOST]:
         return LOST
-    return str(len(world.web(counted)))
+    return str(len(world.own_web(counted)))
 
 
 def answer_send(world, teller, hearer):
@@ -231,7 +231,7 @@ WEB_ANSWERS = {
 
 def answer_of_web(world, word, house, *things):
     """What is answered of a house's web."""
-    web = world.web(house)
+    web = world.own_web(house)
     answer = WEB_ANSWERS[word]
     return answer(web, *things)
 

@@ -1,7 +1,7 @@
 """Houses: each keeps a web of its own, writes the deeds of its people, and hears those of others [22]."""
 
-from branchedhall.deeds import MOST_NAMES, NAME, is_one_of, look_at_deed
-from branchedhall.errors import Barred, Busy, Full, NoDeed, NoHall, NoHouse, Twin
+from branchedhall.deeds import MOST_NAMES, is_one_of, look_at_deed
+from branchedhall.errors import Busy, Full, NoDeed, NoHall, NoHouse, Twin
 from branchedhall.leave import leave_for
 from branchedhall.webs import Web
 from branchedhall.words import GREATEST_NUMBER, is_name, is_word
@@ -9,11 +9,10 @@ from branchedhall.words import GREATEST_NUMBER, is_name, is_word
 
 def next_number(web, house):
     """The number of the next deed that a house writes into a web."""
-    numbers = [name[1] for name in web.names() if name[0] == house]
-    number = max(numbers, default=-1) + 1
+    number = web.greatest.get(house, -1) + 1
     if number <= GREATEST_NUMBER:
         return number
-    return min([free for free in range(len(numbers) + 1) if free not in numbers])
+    return min([free for free in range(len(web) + 1) if (house, free) not in web.known])
 
 
 def written(web, house, person, kind, about, body):
@@ -22,7 +21,8 @@ def written(web, house, person, kind, about, body):
     after = () if is_one_of(kind, ("begin",)) else tuple(web.ends()[-MOST_NAMES:])
     # What gives leave can be asked for a deed alone: so its after stands there first, which is of the same form.
     look_at_deed((name, kind, person, about, body, after, after))
-    return (name, kind, person, about, body, after, leave_for(web.now(), kind, person, about, body))
+    state = web.lets.state_of(after) if after else {}
+    return (name, kind, person, about, body, after, leave_for(state, kind, person, about, body))
 
 
 def heard(web, thing):
@@ -67,13 +67,9 @@ class House:
 
     def do(self, person, kind, *, about="", body):
         """Writes a deed of a person of the house, if it is let in; told is the deed."""
-        web = self.own_web().twin()
+        web = self.own_web()
         deed = written(web, self.house, person, kind, about, body)
-        web.put(deed)
-        why = web.why(deed[NAME])
-        if why is not None:
-            raise Barred(why[0], why[1])
-        self.kept = web
+        web.put_own(deed)
         return deed
 
     def hear(self, deeds):
@@ -91,9 +87,8 @@ class House:
 
     def answers(self, names):
         """The deeds that are known of these things, of any kind, in their order."""
-        web = self.own_web()
-        known = {name: True for name in web.names()}
-        return [deed for name in names if is_name(name) and name in known for deed in web.both(name)]
+        known = self.own_web().known
+        return [deed for name in names if is_name(name) and name in known for deed in known[name]]
 
     def log(self):
         """What was known ahead of and behind each hearing."""

@@ -22,7 +22,10 @@ def look_at_states(thing):
 def alike_in(states):
     """What is alike: the keys for which all states have the same name."""
     first = states[0]
-    return {key: first[key] for key in sorted(first) if all([state.get(key) == first[key] for state in states])}
+    keys = sorted(first)
+    for state in states[1:]:
+        keys = [key for key in keys if state.get(key) == first[key]]
+    return {key: first[key] for key in keys}
 
 
 def not_in_each_chain(hall, states):
@@ -38,6 +41,9 @@ def parted(hall, states):
     """What is alike in one to six states, and the names that differ."""
     look_at_states(states)
     alike = alike_in(states)
+    # Alike states have alike chains, which may be long: they needn't be gone through.
+    if all([len(state) == len(alike) for state in states]):
+        return alike, []
     others = [state[key] for state in states for key in state if key not in alike]
     return alike, sorted(set(others + not_in_each_chain(hall, states)))
 

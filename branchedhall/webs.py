@@ -1,18 +1,20 @@
 """Webs of deeds: how each deed stands and why [18], what is told of a web [19], and words let go [20]."""
 
 from branchedhall.chains import not_given, past_of
-from branchedhall.deeds import AFTER, BODY, KIND, LEAVE, NAME, key_of, look_at_deed, with_body
-from branchedhall.errors import Full, NoBegin, NoGoing, NoName, NoState, Twin
-from branchedhall.leave import bar
-from branchedhall.made import made
+from branchedhall.deeds import ABOUT, AFTER, BODY, KIND, LEAVE, NAME, WHO, key_of, look_at_deed, with_body
+from branchedhall.errors import Barred, Full, NoBegin, NoGoing, NoName, NoState, Twin
+from branchedhall.leave import bar, keys_for
+from branchedhall.lets import Lets, copied
 from branchedhall.orders import MOST_STATES
 from branchedhall.words import is_name
 
 MOST = 300
+WHY_TWIN = ("twin", "")
+WHY_AHEAD = ("ahead", "")
 
 
 def named_in(deed):
-    """All names in a deed's after or leave."""
+    """All names in a deed's after or leave, twice what stands in both."""
     return deed[AFTER] + deed[LEAVE]
 
 
@@ -24,23 +26,13 @@ def with_key(state, key, name):
     return changed
 
 
-def why_past(hall, deed):
-    """Bars a deed that names, or strikes, what isn't in the past of its after."""
-    past = past_of(hall, deed[AFTER])
-    if not all([name in past for name in deed[LEAVE]]):
-        return ("past", "leave")
-    if deed[KIND] == "strike" and deed[BODY] not in past:
-        return ("past", "strike")
-    return None
-
-
-def in_all_pasts(hall, ends):
-    """The names that stand in the past of each of the ends."""
-    many = {}
-    for end in ends:
-        for name in past_of(hall, [end]):
-            many[name] = many.get(name, 0) + 1
-    return [name for name in many if many[name] == len(ends)]
+def is_soft(hall, now, ahead, deed):
+    """Whether the state now bars a deed; its own standing there doesn't count."""
+    # Nothing but these keys is looked at: so the state, which may have many, isn't copied for each deed.
+    keys = keys_for(deed[KIND], deed[WHO], deed[ABOUT], deed[BODY])
+    seen = {key: now[key] for key in keys if key in now}
+    key = key_of(deed)
+    return bar(hall, with_key(seen, key, ahead.get(key)), deed) is not None
 
 
 def knows_same_deed(web, other, name):
@@ -64,21 +56,29 @@ class Web:
     """The deeds that are known of one hall.
 
     known has the one or two deeds of each known name, gone the names whose words were let go, whys what bars each
-    deed that waits for nothing (None of one that is let in), aheads the states ahead of those that are let in.
+    deed that waits for nothing (None of one that is let in), and lets those that are let in. namers has for each name
+    those whose deeds name it, lacks of each known name how many it names that wait or aren't known, lost the missing
+    names, greatest the greatest known number of each house: so that a deed that comes is looked at, and what hangs on
+    it, but not all that is known.
     """
 
     def __init__(self, first):
         look_at_deed(first)
         if first[KIND] != "begin":
             raise NoBegin()
-        name = first[NAME]
         self.first = first
-        self.known = {name: (first,)}
+        self.known = {}
         self.gone = {}
-        self.whys = {name: None}
-        self.aheads = {name: {}}
+        self.whys = {}
+        self.namers = {}
+        self.lacks = {}
+        self.lost = {}
+        self.greatest = {}
         # Beside len: what is done at last, whatever came of a hearing, may ask for fields, but call nothing.
-        self.many = 1
+        self.many = 0
+        self.lets = Lets()
+        self.take_up(first)
+        self.let_in(first, {})
 
     def put(self, deed):
         """Takes a deed up; told is how it stands."""
@@ -90,21 +90,57 @@ class Web:
             self.bring_back(deed)
         elif deed not in self.known[name]:
             self.put_unlike(deed)
-        return self.stand(name)
+        return self.stand_of_known(name)
 
     def put_new(self, deed):
         """Takes up a deed whose name isn't known."""
+        self.look_for_room()
+        self.take_up(deed)
+        if self.lacks[deed[NAME]] == 0:
+            self.settle([deed[NAME]])
+
+    def put_own(self, deed):
+        """Takes up a deed whose name isn't known and that names none but such as are let in, if it is let in, too."""
+        self.look_for_room()
+        why, ahead = self.look_at(deed)
+        if why is not None:
+            raise Barred(why[0], why[1])
+        self.take_up(deed)
+        self.let_in(deed, ahead)
+        self.settle(self.freed_by(deed[NAME]))
+
+    def look_for_room(self):
+        """Refuses a further name where there are too many."""
         if len(self.known) >= MOST:
             raise Full()
-        self.known[deed[NAME]] = (deed,)
+
+    def take_up(self, deed):
+        """Knows a deed from now on, by what it names."""
+        name = deed[NAME]
+        named = named_in(deed)
+        house, number = name
+        self.known[name] = (deed,)
         self.many = len(self.known)
-        self.settle()
+        self.greatest[house] = max(number, self.greatest.get(house, 0))
+        if name in self.lost:
+            del self.lost[name]
+        self.miss(named)
+        for other in named:
+            self.namers.setdefault(other, []).append(name)
+        self.lacks[name] = len([other for other in named if other not in self.whys])
+
+    def miss(self, names):
+        """Misses those of some names that aren't known."""
+        for name in names:
+            if name not in self.known:
+                self.lost[name] = True
 
     def bring_back(self, deed):
         """Brings back words that were let go."""
         if deed[BODY] != "":
             name = deed[NAME]
             self.known[name] = (deed,) + self.known[name][1:]
+            self.lets.change_words(deed)
             del self.gone[name]
 
     def put_unlike(self, deed):
@@ -114,75 +150,85 @@ class Web:
             raise Twin(name)
         if len(self.known[name]) == 1:
             self.known[name] = (self.known[name][0], deed)
-            self.unsettle(name)
-            self.settle()
+            self.miss(named_in(deed))
+            self.bar_twin(name)
 
-    def unsettle(self, name):
-        """Takes back how a name stands, and all that hangs on it."""
+    def bar_twin(self, name):
+        """Bars a name that became a twin, and what hangs on it."""
+        waited = name not in self.whys
+        self.whys[name] = WHY_TWIN
+        if waited:
+            self.settle(self.freed_by(name))
+        elif name in self.lets.deeds:
+            self.take_out(name)
+
+    def take_out(self, name):
+        """Takes out a name that was let in, and bars all that hangs on it, but what waits or is a twin."""
+        self.lets.take_out(name)
         hanging = [name]
         while hanging:
             one = hanging.pop()
-            if one in self.aheads:
-                del self.aheads[one]
-            if one in self.whys:
-                del self.whys[one]
-            hanging.extend([other for other in self.whys if one in named_in(self.known[other][0])])
+            for other in self.namers.get(one, []):
+                if other in self.whys and self.whys[other] != WHY_TWIN:
+                    self.whys[other] = WHY_AHEAD
+                    # What hangs on one that was barred is barred already.
+                    if other in self.lets.deeds:
+                        self.lets.take_out(other)
+                        hanging.append(other)
 
-    def settle(self):
-        """Looks at all deeds that wait for nothing any more, as long as there are such."""
-        due = self.due()
+    def settle(self, free):
+        """Looks at names that wait for nothing any more, and at those that waited for these alone."""
+        due = list(free)
         while due:
-            for name in due:
-                self.look_at(name)
-            due = self.due()
-
-    def due(self):
-        """The names that weren't looked at, and wait for nothing."""
-        return [name for name in self.known if name not in self.whys and not self.has_to_wait(name)]
-
-    def has_to_wait(self, name):
-        """Whether a name that is no twin names one that isn't known or waits."""
-        deeds = self.known[name]
-        return len(deeds) == 1 and not all([other in self.whys for other in named_in(deeds[0])])
-
-    def look_at(self, name):
-        """Finds out how a name stands that waits for nothing."""
-        why = self.why_named(name)
-        if why is None:
+            name = due.pop()
             deed = self.known[name][0]
-            ahead = self.made_of(deed[AFTER])[0]
-            rule = bar(self.hall(), ahead, deed)
-            if rule is None:
-                self.aheads[name] = ahead
+            why, ahead = self.look_at(deed)
+            if why is None:
+                self.let_in(deed, ahead)
             else:
-                why = ("here", rule)
-        self.whys[name] = why
+                self.whys[name] = why
+            due.extend(self.freed_by(name))
 
-    def why_named(self, name):
-        """The first due of what bars a name, up to what the state ahead of its deed tells."""
-        deeds = self.known[name]
-        if len(deeds) > 1:
-            return ("twin", "")
-        deed = deeds[0]
+    def let_in(self, deed, ahead):
+        """Lets a deed in, by the state ahead of it."""
+        self.whys[deed[NAME]] = None
+        self.lets.let_in(deed, ahead)
+
+    def freed_by(self, name):
+        """The names that wait for nothing any more now that this one waits no more."""
+        free = []
+        for other in self.namers.get(name, []):
+            if other not in self.whys:
+                self.lacks[other] -= 1
+                if self.lacks[other] == 0:
+                    free.append(other)
+        return free
+
+    def look_at(self, deed):
+        """What bars a deed that is no twin and waits for nothing, and None; or None, and the state ahead of it."""
+        why = self.why_named(deed)
+        if why is not None:
+            return why, None
+        ahead = self.lets.state_of(deed[AFTER])
+        rule = bar(self.lets.deeds, ahead, deed)
+        return (None, ahead) if rule is None else (("here", rule), None)
+
+    def why_named(self, deed):
+        """The first due of what bars a deed, up to what the state ahead of it tells."""
         if any([self.whys[other] is not None for other in named_in(deed)]):
-            return ("ahead", "")
+            return WHY_AHEAD
         # The web's own begin is never looked at, and another one has nothing of which a state were made.
         if deed[KIND] == "begin":
             return ("here", "begun")
-        hall = self.hall()
-        why = why_past(hall, deed)
+        why = self.lets.why_past(deed)
         if why is not None:
             return why
-        rule = not_given(hall, deed)
+        rule = not_given(self.lets.deeds, deed)
         return None if rule is None else ("leave", rule)
-
-    def made_of(self, names):
-        """What is made of the states behind some names that are let in, and its paper."""
-        return made(self.hall(), [self.behind(name) for name in names])
 
     def made_now(self):
         """What is made of the states behind the ends, of many ends the last ones, and its paper."""
-        return self.made_of(self.ends()[-MOST_STATES:])
+        return self.lets.made_of(self.ends()[-MOST_STATES:])
 
     def look_up(self, name):
         """The deeds that are known by a name; NoName of what isn't known, of anything."""
@@ -193,7 +239,7 @@ class Web:
     def look_up_let(self, name):
         """The deed of a name that is let in; NoState of another one that is known."""
         deeds = self.look_up(name)
-        if name not in self.aheads:
+        if name not in self.lets.deeds:
             raise NoState(name)
         return deeds[0]
 
@@ -212,9 +258,21 @@ class Web:
         """The deeds that are known by a name, one or two, the one known first ahead."""
         return list(self.look_up(name))
 
+    def all_deeds(self):
+        """All deeds that are known, by names, of a twin both."""
+        return [deed for name in self.names() for deed in self.known[name]]
+
+    def knows(self, deed):
+        """Whether a deed is known, not its name alone."""
+        return deed in self.known.get(deed[NAME], ())
+
     def stand(self, name):
         """How a name stands."""
         self.look_up(name)
+        return self.stand_of_known(name)
+
+    def stand_of_known(self, name):
+        """How a name stands that is known."""
         if name not in self.whys:
             return "waits"
         return "let" if self.whys[name] is None else "barred"
@@ -227,29 +285,26 @@ class Web:
     def ahead(self, name):
         """The state ahead of a deed that is let in."""
         self.look_up_let(name)
-        state = self.aheads[name]
-        return {key: state[key] for key in state}
+        state = self.lets.aheads[name]
+        return {key: state[key] for key in sorted(state)}
 
     def behind(self, name):
         """The state behind a deed that is let in."""
         deed = self.look_up_let(name)
-        return with_key(self.aheads[name], key_of(deed), name)
+        return with_key(self.ahead(name), key_of(deed), name)
 
     def past(self, name):
         """The past of a deed that is let in."""
         self.look_up_let(name)
-        return past_of(self.hall(), [name])
+        return past_of(self.lets.deeds, [name])
 
     def missing(self):
         """The names that known deeds name, and that aren't known."""
-        named = [name for deeds in self.known.values() for deed in deeds for name in named_in(deed)]
-        return sorted({name for name in named if name not in self.known})
+        return sorted(self.lost)
 
     def ends(self):
         """The names that are let in, and in no after of one that is let in."""
-        hall = self.hall()
-        followed = {name: True for deed in hall.values() for name in deed[AFTER]}
-        return [name for name in hall if name not in followed]
+        return self.lets.ends()
 
     def now(self):
         """The state now."""
@@ -262,24 +317,19 @@ class Web:
     def soft(self):
         """The names that are let in, but have no leave now."""
         hall = self.hall()
+        aheads = self.lets.aheads
         now = self.now()
-        return [name for name in hall if name != self.first[NAME] and self.is_soft(hall, now, name)]
-
-    def is_soft(self, hall, now, name):
-        """Whether the state now bars a deed; its own standing there doesn't count."""
-        key = key_of(hall[name])
-        return bar(hall, with_key(now, key, self.aheads[name].get(key)), hall[name]) is not None
+        return [name for name in hall if name != self.first[NAME] and is_soft(hall, now, aheads[name], hall[name])]
 
     def hall(self):
         """The hall of those that are let in, sorted by their names."""
-        return {name: self.known[name][0] for name in sorted(self.aheads)}
+        deeds = self.lets.deeds
+        return {name: deeds[name] for name in sorted(deeds)}
 
     def may_go(self):
         """The names of says whose words may be let go."""
-        hall = self.hall()
-        ends = self.ends()
-        told = [name for name in in_all_pasts(hall, ends) if name not in ends and name not in self.gone]
-        return sorted([name for name in told if hall[name][KIND] == "say"])
+        deeds = self.lets.deeds
+        return [name for name in self.lets.in_all_pasts() if deeds[name][KIND] == "say" and name not in self.gone]
 
     def let_go(self, names):
         """Lets go the words of some says; NoGoing, where one of them may not go, changes nothing."""
@@ -291,18 +341,23 @@ class Web:
                 raise NoGoing(name)
             del left[name]
         for name in names:
-            self.known[name] = (with_body(self.known[name][0], ""),)
+            bare = with_body(self.known[name][0], "")
+            self.known[name] = (bare,)
+            self.lets.change_words(bare)
             self.gone[name] = True
 
     def twin(self):
         """Another web that knows the same, and has let go the same."""
         web = Web(self.first)
-        web.known = {name: self.known[name] for name in self.known}
-        web.gone = {name: True for name in self.gone}
-        web.whys = {name: self.whys[name] for name in self.whys}
-        # The states themselves are never changed, and told as copies alone.
-        web.aheads = {name: self.aheads[name] for name in self.aheads}
+        web.known = copied(self.known)
+        web.gone = copied(self.gone)
+        web.whys = copied(self.whys)
+        web.namers = {name: list(self.namers[name]) for name in self.namers}
+        web.lacks = copied(self.lacks)
+        web.lost = copied(self.lost)
+        web.greatest = copied(self.greatest)
         web.many = self.many
+        web.lets = self.lets.twin()
         return web
 
     def __len__(self):

@@ -33,21 +33,15 @@ def done(home, person, kind, about, body):
         return ("barred", barred.where, barred.rule)
 
 
-def all_deeds(web):
-    """All deeds that a web knows, by names."""
-    return [deed for name in web.names() for deed in web.both(name)]
-
-
 def sent(teller, hearer):
     """What the hearer tells of all that the teller knows."""
-    return hearer.hear(all_deeds(teller.web()))
+    return hearer.hear(teller.own_web().all_deeds())
 
 
 def sent_some(teller, hearer, many):
     """What the hearer tells of the first so many deeds that it doesn't know, turned about."""
-    web = hearer.web()
-    known = {name: web.both(name) for name in web.names()}
-    news = [deed for deed in all_deeds(teller.web()) if deed not in known.get(deed[NAME], [])]
+    web = hearer.own_web()
+    news = [deed for deed in teller.own_web().all_deeds() if not web.knows(deed)]
     return hearer.hear(news[:many][::-1])
 
 
@@ -55,8 +49,8 @@ def fetched(asker, teller):
     """What the asker tells of the answers, as long as names become known by them."""
     told = []
     known = 0
-    while len(asker.web()) > known:
-        known = len(asker.web())
+    while len(asker.own_web()) > known:
+        known = len(asker.own_web())
         told.extend(asker.hear(teller.answers(asker.asks())))
     return told
 
@@ -129,13 +123,17 @@ class World:
         """The houses, as they were handed in."""
         return list(self.order)
 
-    def web(self, house):
-        """A twin of a house's web."""
+    def own_web(self, house):
+        """A house's own web."""
         if not self.has(house):
             raise NoHouse(house)
-        return self.homes[house].web()
+        return self.homes[house].own_web()
+
+    def web(self, house):
+        """A twin of a house's web."""
+        return self.own_web(house).twin()
 
     def is_one(self):
         """Whether all houses that aren't parted tell the same state now."""
-        states = [self.homes[house].web().now() for house in self.order if house not in self.away]
+        states = [self.own_web(house).now() for house in self.order if house not in self.away]
         return all([state == states[0] for state in states])
