@@ -3,8 +3,8 @@
 Ways are gone without a function that calls itself: a hall may be deeper than Python lets calls nest.
 """
 
-from branchedhall.deeds import ABOUT, AFTER, BODY, KIND, LEAVE, WHO, key_of
-from branchedhall.leave import bar, leave_for
+from branchedhall.deeds import AFTER, LEAVE, key_of
+from branchedhall.leave import bar, leave_keys
 from branchedhall.words import is_name
 
 
@@ -18,15 +18,21 @@ def by_leave(hall, deed):
     return state
 
 
-def not_given(hall, deed):
-    """The first due rule by which a deed isn't given by what it names, or None."""
-    state = by_leave(hall, deed)
+def not_given_by(hall, state, keys, deed):
+    """The same as not_given, by the state by what the deed names, and the keys on which its leave hangs."""
     # Where one has no key, or two have one, the state has fewer keys than the leave has names.
     if len(state) < len(deed[LEAVE]):
         return "twice"
-    if leave_for(state, deed[KIND], deed[WHO], deed[ABOUT], deed[BODY]) != deed[LEAVE]:
-        return "other"
+    # Each of its leave stands in the state: so the state gives others only where some key of it isn't asked for.
+    for key in state:
+        if key not in keys:
+            return "other"
     return bar(hall, state, deed)
+
+
+def not_given(hall, deed):
+    """The first due rule by which a deed isn't given by what it names, or None."""
+    return not_given_by(hall, by_leave(hall, deed), leave_keys(deed), deed)
 
 
 def reached(hall, names, part):

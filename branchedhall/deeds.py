@@ -21,6 +21,8 @@ RULES = (1, 2)
 MOST_PEOPLE = 20
 MOST_SIGNS = 80
 MOST_NAMES = 6
+# What is sorted ahead of all names.
+LEAST = ("", 0)
 
 
 def is_one_of(thing, texts):
@@ -81,9 +83,8 @@ def is_door_body(body):
 
 def is_say_body(body):
     """Whether a thing is a text that may be said."""
-    if not isinstance(body, str) or len(body) > MOST_SIGNS:
-        return False
-    return all([" " <= sign <= "~" for sign in body])
+    # What is printable of ASCII are the signs from the blank to the last one but one.
+    return isinstance(body, str) and len(body) <= MOST_SIGNS and body.isascii() and body.isprintable()
 
 
 def is_strike_body(body):
@@ -121,7 +122,13 @@ def is_names(kind, own, names):
         return False
     if (kind == "begin") != (len(names) == 0):
         return False
-    return all([is_name(name) and name != own for name in names]) and is_rising(names)
+    ahead = LEAST
+    for name in names:
+        # Looked at ahead of being compared: what is no name might say anything then.
+        if not is_name(name) or name == own or name <= ahead:
+            return False
+        ahead = name
+    return True
 
 
 def wrong_part(deed):

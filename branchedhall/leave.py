@@ -2,7 +2,7 @@
 
 from branchedhall.deeds import ABOUT, BODY, KIND, WHO, WORDS
 from branchedhall.ranks import BEGIN_KEY, DOOR_KEY, RANKS_KEY
-from branchedhall.ranks import deed_for, door_in, people_by, people_in, rank_in, seat_in, wanted_by, wanted_in
+from branchedhall.ranks import body_for, door_in, people_by, people_in, rank_in, seat_in, wanted_by, wanted_in
 from branchedhall.ranks import who_began
 from branchedhall.words import house_of
 
@@ -23,6 +23,11 @@ def keys_for(kind, who, about, body):
     return keys
 
 
+def leave_keys(deed):
+    """The keys on which the leave of a deed hangs."""
+    return keys_for(deed[KIND], deed[WHO], deed[ABOUT], deed[BODY])
+
+
 def leave_for(state, kind, who, about, body):
     """The names that give such a deed leave by a state."""
     return tuple(sorted({state[key] for key in keys_for(kind, who, about, body) if key in state}))
@@ -30,7 +35,9 @@ def leave_for(state, kind, who, about, body):
 
 def bar_less(hall, state, who, word):
     """Bars whose rank is less than that wanted for a word."""
-    return "rank" if rank_in(hall, state, who) < wanted_in(hall, state, word) else None
+    wanted = wanted_in(hall, state, word)
+    # Of 0, with which what is done most often is wanted, no rank is less: so it needn't be looked for.
+    return "rank" if wanted > 0 and rank_in(hall, state, who) < wanted else None
 
 
 def bar_coming(hall, state, who, about):
@@ -67,7 +74,14 @@ def bar_putting(hall, state, who, about, word):
 
 
 def bar_seat(hall, state, who, about, body):
-    """Bars who is in and may not change another one's seat so, nor bar oneself."""
+    """Bars who may not change this seat so, be it one's own."""
+    if body == "in":
+        return bar_coming(hall, state, who, about)
+    seat = seat_in(hall, state, who)
+    if body == "out" and about == who:
+        return None if seat in TAKEN_SEATS else "seat"
+    if seat != "in":
+        return "seat"
     if body == "called":
         return bar_calling(hall, state, who, about)
     return bar_putting(hall, state, who, about, "out" if body == "out" else "bar")
@@ -102,7 +116,7 @@ def bar_ranks(hall, state, who, body):
 
 def bar_strike(hall, state, who, struck):
     """Bars who may not strike this name out."""
-    rules = deed_for(hall, state, BEGIN_KEY)[BODY][0]
+    rules = body_for(hall, state, BEGIN_KEY, None)[0]
     if rules == OWN_STRIKES_RULES and struck[0] == house_of(who):
         return None
     return bar_less(hall, state, who, "strike")
@@ -115,15 +129,10 @@ def bar(hall, state, deed):
         return "begun" if len(state) > 0 else None
     if BEGIN_KEY not in state:
         return "unbegun"
-    if kind == "seat" and body == "in":
-        return bar_coming(hall, state, who, about)
-    seat = seat_in(hall, state, who)
-    if kind == "seat" and body == "out" and about == who:
-        return None if seat in TAKEN_SEATS else "seat"
-    if seat != "in":
-        return "seat"
     if kind == "seat":
         return bar_seat(hall, state, who, about, body)
+    if seat_in(hall, state, who) != "in":
+        return "seat"
     if kind == "ranks":
         return bar_ranks(hall, state, who, body)
     if kind == "strike":

@@ -1,9 +1,9 @@
 """The state made of several, with its paper [16], and papers looked at [17]."""
 
 from branchedhall.chains import by_leave
-from branchedhall.deeds import ABOUT, BODY, KIND, WHO, is_one_of, is_pair, key_of
+from branchedhall.deeds import is_one_of, is_pair, key_of
 from branchedhall.errors import NoPaper
-from branchedhall.leave import bar, keys_for
+from branchedhall.leave import bar, leave_keys
 from branchedhall.orders import along, by_leaves, line_of, of_rank, parted
 from branchedhall.ranks import RANKS_KEY
 from branchedhall.words import is_name
@@ -12,7 +12,7 @@ from branchedhall.words import is_name
 def seen_by(hall, state, deed):
     """What a deed is looked at by: the state that what it names makes, over which the state's own names stand."""
     seen = by_leave(hall, deed)
-    for key in keys_for(deed[KIND], deed[WHO], deed[ABOUT], deed[BODY]):
+    for key in leave_keys(deed):
         if key in state:
             seen[key] = state[key]
     return seen
@@ -34,6 +34,8 @@ def let_stand(hall, state, names):
 def made(hall, states):
     """The state made of one to six states, and its paper: what differs, as it was looked at, and what bars it."""
     alike, differ = parted(hall, states)
+    if not differ:
+        return alike, []
     state = {key: alike[key] for key in alike}
     ruling = of_rank(hall, differ)
     others = sorted(set(differ) - set(ruling))

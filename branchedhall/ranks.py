@@ -6,25 +6,19 @@ BEGIN_KEY = ("begin", "")
 RANKS_KEY = ("ranks", "")
 DOOR_KEY = ("door", "")
 FIRST_RANK = 100
+NO_RANKS = ((), ())
 FREE_WORDS = ("call", "say")
 WANTED_ELSE = 50
 
 
-def deed_for(hall, state, key):
-    """The deed that a state has for a key, or None."""
-    return hall[state[key]] if key in state else None
-
-
 def body_for(hall, state, key, otherwise):
     """The body of the deed that a state has for a key, or what is told where it has none."""
-    deed = deed_for(hall, state, key)
-    return otherwise if deed is None else deed[BODY]
+    return hall[state[key]][BODY] if key in state else otherwise
 
 
 def who_began(hall, state):
     """The person who began, or None where the state has no begin."""
-    deed = deed_for(hall, state, BEGIN_KEY)
-    return None if deed is None else deed[WHO]
+    return hall[state[BEGIN_KEY]][WHO] if BEGIN_KEY in state else None
 
 
 def people_by(body):
@@ -34,16 +28,17 @@ def people_by(body):
 
 def people_in(hall, state):
     """The ranks that are told by a state, perhaps some of 0; all people that aren't there have 0, too."""
-    body = body_for(hall, state, RANKS_KEY, None)
-    if body is not None:
-        return people_by(body)
-    person = who_began(hall, state)
-    return {} if person is None else {person: FIRST_RANK}
+    if RANKS_KEY in state:
+        return people_by(hall[state[RANKS_KEY]][BODY])
+    return {hall[state[BEGIN_KEY]][WHO]: FIRST_RANK} if BEGIN_KEY in state else {}
 
 
 def wanted_by(body, word):
     """The rank that a word is wanted with where this ranks body stands."""
-    return dict(body[1]).get(word, 0 if word in FREE_WORDS else WANTED_ELSE)
+    for other, rank in body[1]:
+        if other == word:
+            return rank
+    return 0 if word in FREE_WORDS else WANTED_ELSE
 
 
 def rank_in(hall, state, person):
@@ -53,12 +48,13 @@ def rank_in(hall, state, person):
 
 def wanted_in(hall, state, word):
     """The rank that a word is wanted with by a state."""
-    return wanted_by(body_for(hall, state, RANKS_KEY, ((), ())), word)
+    return wanted_by(hall[state[RANKS_KEY]][BODY] if RANKS_KEY in state else NO_RANKS, word)
 
 
 def seat_in(hall, state, person):
     """The seat of a person by a state."""
-    return body_for(hall, state, ("seat", person), "out")
+    key = ("seat", person)
+    return hall[state[key]][BODY] if key in state else "out"
 
 
 def door_in(hall, state):

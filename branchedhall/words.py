@@ -12,27 +12,34 @@ def is_whole(thing):
 
 def is_letters(thing):
     """Whether a thing is a text of one or more small letters, however many."""
-    return isinstance(thing, str) and thing != "" and all(["a" <= sign <= "z" for sign in thing])
+    return isinstance(thing, str) and thing.isascii() and thing.isalpha() and thing.islower()
 
 
 def is_word(thing):
     """Whether a thing is a word; a house is one, too."""
-    return is_letters(thing) and len(thing) <= LONGEST_WORD
+    # What is_letters asks stands here once more: words are looked at so often that a further call is felt.
+    if not isinstance(thing, str) or len(thing) > LONGEST_WORD:
+        return False
+    return thing.isascii() and thing.isalpha() and thing.islower()
 
 
 def is_person(thing):
     """Whether a thing is a person: a word, an at-sign, a house."""
     if not isinstance(thing, str):
         return False
-    sides = thing.split("@")
-    return len(sides) == 2 and is_word(sides[0]) and is_word(sides[1])
+    # Without an at-sign the house has no letters, and with a second one it has more than letters.
+    word, at, house = thing.partition("@")
+    return is_word(word) and is_word(house)
 
 
 def is_name(thing):
     """Whether a thing is a name of a deed: a tuple of a house and a number."""
     if not isinstance(thing, tuple) or len(thing) != 2:
         return False
-    return is_word(thing[0]) and is_whole(thing[1]) and 0 <= thing[1] <= GREATEST_NUMBER
+    house, number = thing
+    if not isinstance(number, int) or isinstance(number, bool) or not 0 <= number <= GREATEST_NUMBER:
+        return False
+    return is_word(house)
 
 
 def is_rank(thing):

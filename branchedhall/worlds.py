@@ -35,14 +35,13 @@ def done(home, person, kind, about, body):
 
 def sent(teller, hearer):
     """What the hearer tells of all that the teller knows."""
-    return hearer.hear(teller.own_web().all_deeds())
+    return hearer.hear_deeds(teller.own_web().all_deeds())
 
 
 def sent_some(teller, hearer, many):
     """What the hearer tells of the first so many deeds that it doesn't know, turned about."""
-    web = hearer.own_web()
-    news = [deed for deed in teller.own_web().all_deeds() if not web.knows(deed)]
-    return hearer.hear(news[:many][::-1])
+    news = hearer.own_web().unknown_of(teller.own_web().all_deeds())
+    return hearer.hear_deeds(news[:many][::-1])
 
 
 def fetched(asker, teller):
@@ -51,7 +50,7 @@ def fetched(asker, teller):
     known = 0
     while len(asker.own_web()) > known:
         known = len(asker.own_web())
-        told.extend(asker.hear(teller.answers(asker.asks())))
+        told.extend(asker.hear_deeds(teller.answers(asker.asks())))
     return told
 
 
@@ -63,13 +62,16 @@ class World:
         self.order = list(houses)
         self.homes = {house: House(house) for house in houses}
         self.away = {}
-        first = self.homes[houses[0]].begin(person, rules=rules)
+        first = self.homes[houses[0]]
+        first.begin(person, rules=rules)
+        # What they are told is the begin: it was looked at already, and none of them has a hall.
         for house in houses[1:]:
-            self.homes[house].told(first)
+            self.homes[house].share(first.own_web())
 
     def has(self, thing):
         """Whether a thing, of any kind, is a house of this world."""
-        return is_word(thing) and thing in self.homes
+        # What is no text might not even be looked for.
+        return isinstance(thing, str) and thing in self.homes
 
     def is_row(self, thing):
         """Whether a thing, of any kind, is a row of this world."""
@@ -78,8 +80,9 @@ class World:
         word = thing[0]
         if len(thing) != THINGS[word]:
             return False
-        if not all([self.has(house) for house in thing[1:HOUSES[word] + 1]]):
-            return False
+        for house in thing[1:HOUSES[word] + 1]:
+            if not self.has(house):
+                return False
         return word != "some" or (is_whole(thing[3]) and 0 <= thing[3] <= MOST)
 
     def weave(self, rows):

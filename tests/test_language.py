@@ -58,7 +58,7 @@ BUILTINS = (
 METHODS = (
     "append clear copy count endswith extend find get index insert isalnum isalpha isdigit islower isspace isupper items "
     "join keys ljust lower lstrip partition pop remove replace reverse rfind rjust rpartition rsplit rstrip setdefault "
-    "split splitlines startswith strip update upper values zfill bit_length sort add discard __init__").split()
+    "split splitlines startswith strip update upper values zfill bit_length isascii isprintable sort add discard __init__").split()
 DOUBLE_METHODS = ("__init__", "__len__", "__eq__")
 BARRED_ATTRIBUTES = (
     "items keys values pop update append clear extend insert remove reverse setdefault sort args encode decode hex "

@@ -3,7 +3,6 @@
 No clock is asked: the steps that Python does are counted.
 """
 
-import sys
 import unittest
 
 from branchedhall.errors import Full
@@ -12,6 +11,7 @@ from branchedhall.webs import MOST, Web
 from branchedhall.worlds import World
 from tests.halls import BEGIN, DOOR, seat
 from tests.samples import altered
+from tests.steps import steps_of
 from tests.stories import told_of
 
 WHO = "p@a"
@@ -160,6 +160,43 @@ class Kept(unittest.TestCase):
         self.assertEqual(web.put(say(6, (("a", 3), ("a", 4)), ranked)), "let")
         self.assertEqual((web.may_go(), web.past(("a", 6))), ([("a", 4)], [FIRST, SAT, ("a", 3), ("a", 4), ("a", 6)]))
 
+    def test_pasts_in_a_twin_of_what_comes_behind_one_taken_out(self):
+        # No two names share a bit, whatever was taken out ahead of the twin.
+        ranks = (("a", 3), "ranks", WHO, "", (((WHO, 100),), ()), (SAT,), (FIRST, SAT))
+        web = put_all([SIT, say(2, (SAT,)), ranks])[0]
+        web.put(altered(say(2, (SAT,)), body="y"))
+        twin = web.twin()
+        for each in (twin, web):
+            self.assertEqual((each.put(say(4, (SAT,))), each.put(say(5, (("a", 4),), (FIRST, SAT, ("a", 3))))),
+                             ("let", "barred"))
+            self.assertEqual((each.why(("a", 5)), each.may_go()), (("past", "leave"), []))
+
+    def test_what_was_barred_already_is_barred_by_what_it_names(self):
+        # Whether in its after, in its leave or in both: a name that is barred later is the first due.
+        open_door = (("a", 2), "door", WHO, "", "open", (SAT,), (FIRST, SAT))
+        said, chat = say(3, (("a", 2),)), say(4, (("a", 3),))
+        wrong = [
+            ((("b", 1), "say", "q@b", "", "x", (("a", 3),), (FIRST,)), ("leave", "seat"), [3, 2, 1]),
+            ((("b", 2), "say", "q@b", "", "x", (("a", 3),), (FIRST, ("a", 2))), ("leave", "other"), [2, 3, 1]),
+            ((("b", 3), "say", "q@b", "", "x", (SAT,), (FIRST, ("a", 4))), ("past", "leave"), [4, 1]),
+            ((("b", 4), "strike", "q@b", "", ("a", 3), (("a", 4),), (FIRST,)), ("leave", "seat"), [3, 4, 1]),
+            ((("b", 5), "say", "q@b", "", "x", (("b", 1),), (FIRST,)), ("ahead", ""), [3]),
+        ]
+        deeds = [SIT, open_door, said, chat]
+        for late in (False, True):
+            for one, why, numbers in wrong:
+                for number in numbers:
+                    # Where it comes late it is barred at once, else it waited first.
+                    web = put_all([*deeds, wrong[0][0], one] if late else [one, wrong[0][0], *deeds])[0]
+                    self.assertEqual(web.why(one[0]), why)
+                    twin = web.twin()
+                    for each in (web, twin):
+                        told = each.deed(("a", number))
+                        self.assertEqual(each.put(altered(told, who="z@a")), "barred")
+                        self.assertEqual((each.why(("a", number)), each.why(one[0])), (("twin", ""), ("ahead", "")))
+                        anew = put_all([*deeds, wrong[0][0], one, altered(told, who="z@a")])[0]
+                        self.assertEqual(told_of(each), told_of(anew))
+
     def test_pasts_of_twins_that_hear_in_other_orders(self):
         web = put_all([SIT])[0]
         other = web.twin()
@@ -204,24 +241,6 @@ class Kept(unittest.TestCase):
         self.assertEqual(web.ends(), [SAT])
 
 
-def steps_of(act):
-    """How many steps Python does in an act: the same in each run."""
-    many = 0
-
-    def trace(frame, event, argument):
-        nonlocal many
-        frame.f_trace_opcodes = True
-        many += event == "opcode"
-        return trace
-    before = sys.gettrace()
-    sys.settrace(trace)
-    try:
-        act()
-    finally:
-        sys.settrace(before)
-    return many
-
-
 class Steps(unittest.TestCase):
     def assert_no_square(self, act):
         """Sees to it that of twice the names there are about twice the steps, not four times as many."""
@@ -246,6 +265,14 @@ class Steps(unittest.TestCase):
             says = in_a_row(many)
             put_all([SIT, *says, *[altered(one, body="y") for one in says[::-1]]])
         self.assert_no_square(act)
+
+    def test_one_of_two_twins_is_copied(self):
+        web = put_all([SIT, *in_a_row(MOST - 5)])[0]
+        twin = web.twin()
+        first, second = [steps_of(lambda: each.put(say(298, (SAT,)))) for each in (web, twin)]
+        # What the one that changes leaves behind is the other's own from then on.
+        self.assertLess(second * 2, first)
+        self.assertEqual(steps_of(lambda: web.put(say(299, (SAT,)))), steps_of(lambda: twin.put(say(299, (SAT,)))))
 
     def test_what_a_house_writes_itself(self):
         self.assert_no_square(lambda many: World(["a"], WHO).weave(rows_of_dos(many)))
